@@ -1,0 +1,1 @@
+"""Holefloors: domino floors with one free cell."""

@@ -1,0 +1,145 @@
+"""What is passed in, checked: it comes back with tuples for lists, or an error is raised."""
+
+from holefloors.errors import NoCell, NoPlace, Unfit
+from holefloors.ground import cell_map, is_couple_in, is_floor_in, kind_by_numbers, make_yard
+from holefloors.shapes import as_couple, as_couples, as_pair, as_pairs, is_ascending, is_number
+
+
+def is_square_pair(pair):
+    """Whether a pair of numbers is a SQUARE."""
+    return pair[0] >= 0 and pair[1] >= 0
+
+
+def yard_or_none(value):
+    """The YARD that value is, if need be with lists for tuples; None if it is none."""
+    squares = as_pairs(value)
+    if squares is None or not all([is_square_pair(square) for square in squares]):
+        return None
+    return squares if is_ascending(squares) and make_yard(squares) else None
+
+
+def floor_or_none(near, value):
+    """The FLOOR that value is, if need be with lists for tuples; None if it is none."""
+    couples = as_couples(value)
+    if couples is None or not all([is_couple_in(near, couple) for couple in couples]):
+        return None
+    return couples if is_ascending(couples) and is_floor_in(near, couples) else None
+
+
+def fit_yard(value):
+    """The YARD that value is."""
+    yard = yard_or_none(value)
+    if yard is None:
+        raise Unfit()
+    return yard
+
+
+def fit_map(value):
+    """The map of the CELLS of the YARD that value is."""
+    return cell_map(fit_yard(value))
+
+
+def map_and_place(yard, place):
+    """The map of the CELLS of a YARD and a PLACE of it, both still to be checked."""
+    near = fit_map(yard)
+    own = fit_pair(place)
+    need_place(near, own)
+    return (near, own)
+
+
+def fit_squares(value):
+    """The tuple, not (), of SQUARES that value is, in any order."""
+    squares = as_pairs(value)
+    if not squares or not all([is_square_pair(square) for square in squares]):
+        raise Unfit()
+    return squares
+
+
+def fit_square(value):
+    """The SQUARE, whichever, that value is."""
+    square = as_pair(value)
+    if square is None or not is_square_pair(square):
+        raise Unfit()
+    return square
+
+
+def fit_square_of(yard, value):
+    """The SQUARE of the YARD that value is."""
+    square = fit_square(value)
+    if square not in yard:
+        raise Unfit()
+    return square
+
+
+def fit_count(value):
+    """The number from 1 that value is."""
+    if not is_number(value) or value < 1:
+        raise Unfit()
+    return value
+
+
+def fit_pair(value):
+    """The pair of numbers that value is."""
+    pair = as_pair(value)
+    if pair is None:
+        raise Unfit()
+    return pair
+
+
+def fit_kind(value):
+    """The kind of PLACES that value is."""
+    if not isinstance(value, str) or value not in ("post", "plot"):
+        raise Unfit()
+    return value
+
+
+def fit_couple(near, value):
+    """The COUPLE that value is."""
+    couple = as_couple(value)
+    if couple is None or not is_couple_in(near, couple):
+        raise Unfit()
+    return couple
+
+
+def fit_couples(near, value):
+    """The tuple of COUPLES that value is, in any order, maybe one twice."""
+    couples = as_couples(value)
+    if couples is None or not all([is_couple_in(near, couple) for couple in couples]):
+        raise Unfit()
+    return couples
+
+
+def fit_rails(near, value):
+    """The set of RAILS that value is."""
+    rails = as_pairs(value)
+    if rails is None or not is_ascending(rails):
+        raise Unfit()
+    if not all([rail in near and kind_by_numbers(rail) == "rail" for rail in rails]):
+        raise Unfit()
+    return rails
+
+
+def fit_floor(near, value):
+    """The FLOOR that value is."""
+    floor = floor_or_none(near, value)
+    if floor is None:
+        raise Unfit()
+    return floor
+
+
+def need_cell(near, pair):
+    """Raises NoCell if the pair is no CELL."""
+    if pair not in near:
+        raise NoCell(pair)
+
+
+def need_rail(near, pair):
+    """Raises NoCell if the pair is no RAIL."""
+    if pair not in near or kind_by_numbers(pair) != "rail":
+        raise NoCell(pair)
+
+
+def need_place(near, pair):
+    """Raises NoPlace if the pair is no PLACE."""
+    if pair not in near or kind_by_numbers(pair) == "rail":
+        raise NoPlace(pair)
