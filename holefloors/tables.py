@@ -100,9 +100,10 @@ def _row_to_begin(rows, step):
 def determinant(table):
     """The determinant, exactly."""
     rows = _fit_table(table)
+    many = len(rows)
     sign = 1
     ahead = 1
-    for step in range(len(rows)):
+    for step in range(many):
         at = _row_to_begin(rows, step)
         if at is None:
             return 0
@@ -111,7 +112,7 @@ def determinant(table):
             sign = -sign
         top = rows[step]
         pivot = top[step]
-        for low in range(step + 1, len(rows)):
+        for low in range(step + 1, many):
             row = rows[low]
             lead = row[step]
             # Bareiss: after this each number is a minor of the table, so the division leaves no rest.
