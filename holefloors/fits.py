@@ -1,8 +1,10 @@
 """What is passed in, checked: it comes back with tuples for lists, or an error is raised."""
 
 from holefloors.errors import NoCell, NoPlace, Unfit
-from holefloors.ground import cell_map, is_couple_in, is_floor_in, kind_by_numbers, make_yard
+from holefloors.ground import cell_map, hole_in, is_couple_in, is_floor_in, is_place_in, kind_by_numbers
+from holefloors.ground import make_yard
 from holefloors.shapes import as_couple, as_couples, as_pair, as_pairs, is_ascending, is_number
+from holefloors.trails import laid_of
 
 
 def is_square_pair(pair):
@@ -47,6 +49,18 @@ def map_and_place(yard, place):
     return (near, own)
 
 
+def map_and_floor(yard, floor):
+    """The map of the CELLS of a YARD and a FLOOR of it, both still to be checked."""
+    near = fit_map(yard)
+    return (near, fit_floor(near, floor))
+
+
+def map_laid_hole(yard, floor):
+    """The map of the CELLS of a YARD, what is laid by a FLOOR of it, its HOLE: both still to be checked."""
+    near, own = map_and_floor(yard, floor)
+    return (near, laid_of(own), hole_in(near, own))
+
+
 def fit_squares(value):
     """The tuple, not (), of SQUARES that value is, in any order."""
     squares = as_pairs(value)
@@ -74,6 +88,13 @@ def fit_square_of(yard, value):
 def fit_count(value):
     """The number from 1 that value is."""
     if not is_number(value) or value < 1:
+        raise Unfit()
+    return value
+
+
+def fit_number(value):
+    """The number that value is."""
+    if not is_number(value):
         raise Unfit()
     return value
 
@@ -109,6 +130,30 @@ def fit_couples(near, value):
     return couples
 
 
+def fit_couple_set(near, value):
+    """The set of COUPLES that value is."""
+    couples = fit_couples(near, value)
+    if not is_ascending(couples):
+        raise Unfit()
+    return couples
+
+
+def plan_or_none(near, value):
+    """The tuple of PLACES that value is, if need be with lists for tuples; None if it is none."""
+    plan = as_pairs(value)
+    if plan is None or not all([is_place_in(near, place) for place in plan]):
+        return None
+    return plan
+
+
+def fit_plan(near, value):
+    """The PLAN that value is; whether it can be done is not asked."""
+    plan = plan_or_none(near, value)
+    if plan is None:
+        raise Unfit()
+    return plan
+
+
 def fit_rails(near, value):
     """The set of RAILS that value is."""
     rails = as_pairs(value)
@@ -141,5 +186,5 @@ def need_rail(near, pair):
 
 def need_place(near, pair):
     """Raises NoPlace if the pair is no PLACE."""
-    if pair not in near or kind_by_numbers(pair) == "rail":
+    if not is_place_in(near, pair):
         raise NoPlace(pair)

@@ -94,6 +94,11 @@ def places_in(near, kind):
     return tuple([cell for cell in near if kind_by_numbers(cell) == kind])
 
 
+def is_place_in(near, cell):
+    """Whether a pair of numbers is a PLACE in a map of CELLS."""
+    return cell in near and kind_by_numbers(cell) != "rail"
+
+
 def couples_in(near):
     """The tuple of all COUPLES in a map of CELLS, ascending."""
     places = [cell for cell in near if kind_by_numbers(cell) != "rail"]
@@ -103,7 +108,7 @@ def couples_in(near):
 def is_couple_in(near, couple):
     """Whether a pair of pairs is a COUPLE in a map of CELLS."""
     place, rail = couple
-    return place in near and kind_by_numbers(place) != "rail" and rail in near[place]
+    return is_place_in(near, place) and rail in near[place]
 
 
 def is_floor_in(near, couples):

@@ -143,6 +143,179 @@ def has_post_ring(floor):
     return False
 
 
+def bent_floors(yard, floor):
+    """What is nearly a FLOOR: a COUPLE lacking, twice, one too many, not ascending, of another yard."""
+    bent = [floor[1:], floor[:-1], floor + floor[-1:], floor[:1] + floor, floor[1:] + floor[:1], floor + (None,)]
+    if len(floor) > 1:
+        bent += [floor[::-1], (floor[1], floor[0]) + floor[2:]]
+    bent += [tuple((rail, place) for place, rail in floor)]
+    bent += [tuple(((x + 2, y), (a + 2, b)) for (x, y), (a, b) in floor[:-1]) + (((1, 1), (1, 1)),)]
+    bent += [tuple(((x, y - 20), (a, b - 20)) for (x, y), (a, b) in floor)]
+    for couple in couples_by_words(yard):
+        if couple not in floor:
+            bent.append(tuple(sorted(floor + (couple,))))
+            bent.append(tuple(sorted(floor[1:] + (couple,))))
+    return bent
+
+
+def couples_by_words(yard):
+    """All COUPLES of a YARD, ascending."""
+    rails = cells_by_squares(yard)[1]
+    around = ((-1, 0), (0, -1), (0, 1), (1, 0))
+    return [
+        ((x, y), (x + a, y + b)) for x, y in all_places(yard) for a, b in around if (x + a, y + b) in rails
+    ]
+
+
+def is_floor_by_words(yard, told):
+    """Whether told, a tuple of pairs of pairs, is a FLOOR."""
+    every = [cell for couple in told for cell in couple]
+    all_cells = set().union(*cells_by_squares(yard))
+    return (
+        len(every) == len(set(every)) and len(all_cells - set(every)) == 1 and set(every) <= all_cells
+        and list(told) == sorted(set(told)) and set(told) <= set(couples_by_words(yard))
+    )
+
+
+def no_floors(yard, floor):
+    """What is nearly the FLOOR, but none."""
+    return tuple(bent for bent in bent_floors(yard, floor) if None in bent or not is_floor_by_words(yard, bent))
+
+
+def pointed(couple):
+    """What lies over against the PLACE of a COUPLE, beyond its RAIL."""
+    (x, y), (a, b) = couple
+    return (2 * a - x, 2 * b - y)
+
+
+def kind_by_words(place):
+    return "post" if place[0] % 2 == 0 else "plot"
+
+
+def hole_by_words(yard, floor):
+    """The CELL that a FLOOR leaves free."""
+    free = set().union(*cells_by_squares(yard)) - {cell for couple in floor for cell in couple}
+    assert len(free) == 1
+    return min(free)
+
+
+def slides_by_words(yard, floor):
+    """The pairs (place, floor) of the PLACES to which a SLIDE leads, each with the FLOOR behind it."""
+    hole = hole_by_words(yard, floor)
+    return sorted(
+        (couple[0], tuple(sorted(set(floor) - {couple} | {(hole, couple[1])})))
+        for couple in floor if pointed(couple) == hole
+    )
+
+
+@lru_cache(maxsize=None)
+def search(yard, floor):
+    """All FLOORS to which SLIDES lead: pairs (floor, the PLACES slid to), tried one by one, the nearest first."""
+    found = {floor: ()}
+    front = [floor]
+    for here in front:
+        for place, after in slides_by_words(yard, here):
+            if after not in found:
+                found[after] = found[here] + (place,)
+                front.append(after)
+    return tuple(found.items())
+
+
+def holes_by_search(yard, floor):
+    """The PLACES to which SLIDES bring the HOLE, each with the PLAN tried first."""
+    return {hole_by_words(yard, own): plan for own, plan in search(yard, floor)}
+
+
+def still_by_search(yard, floor):
+    """The COUPLES that stand in all FLOORS to which SLIDES lead."""
+    return tuple(couple for couple in floor if all(couple in own for own, _ in search(yard, floor)))
+
+
+def rings_by_walk(floor):
+    """The RINGS of a FLOOR, of both kinds, come upon by walking along the arrows from each PLACE."""
+    to = {couple[0]: pointed(couple) for couple in floor}
+    found = set()
+    for start in to:
+        way = [start]
+        while way[-1] in to and to[way[-1]] not in way:
+            way.append(to[way[-1]])
+        if to.get(way[-1]) == start:
+            at = way.index(min(way))
+            found.add(tuple(way[at:] + way[:at]))
+    return sorted(found)
+
+
+def within_by_flood(yard, ring):
+    """The PLACES of a YARD that are shut off by a RING from what is far away."""
+    wall = set(ring)
+    for (x, y), (a, b) in zip(ring, ring[1:] + ring[:1]):
+        wall.add(((x + a) // 2, (y + b) // 2))
+    low, high = min(x for x, _ in wall) - 1, max(x for x, _ in wall) + 1
+    under, above = min(y for _, y in wall) - 1, max(y for _, y in wall) + 1
+    seen = {(low, under)}
+    front = [(low, under)]
+    for x, y in front:
+        for cell in ((x + 1, y), (x - 1, y), (x, y + 1), (x, y - 1)):
+            if low <= cell[0] <= high and under <= cell[1] <= above and cell not in seen | wall:
+                seen.add(cell)
+                front.append(cell)
+    return tuple(
+        (x, y) for x, y in all_places(yard)
+        if low < x < high and under < y < above and (x, y) not in seen | wall
+    )
+
+
+def chance_floor(yard, hole, chance):
+    """A FLOOR with this HOLE, come to by chance: each PLACE takes a RAIL, others give theirs up if need be."""
+    posts, rails, plots = cells_by_squares(yard)
+    holder = {}
+
+    def take(place, tried):
+        x, y = place
+        near = [rail for rail in ((x + 1, y), (x - 1, y), (x, y + 1), (x, y - 1)) if rail in rails]
+        chance.shuffle(near)
+        for rail in near:
+            if rail not in tried:
+                tried.add(rail)
+                if rail not in holder or take(holder[rail], tried):
+                    holder[rail] = place
+                    return True
+        return False
+
+    every = sorted((posts | plots) - {hole})
+    chance.shuffle(every)
+    for place in every:
+        assert take(place, set())
+    return tuple(sorted((place, rail) for rail, place in holder.items()))
+
+
+def nested(many, turned=()):
+    """A FLOOR of boxed(many, many), the HOLE amid: one RING within the other, those turned the other way round."""
+    laid = []
+    for size in range(1, many + 1):
+        x, y = many - size, many - size
+        round_it = []
+        for east, north in ((1, 0), (0, 1), (-1, 0), (0, -1)):
+            for _ in range(2 * size):
+                round_it.append((x, y))
+                x, y = x + east, y + north
+        if size in turned:
+            round_it = round_it[:1] + round_it[:0:-1]
+        laid += list(zip(round_it[::2], round_it[1::2]))
+    return tuple(sorted(laid))
+
+
+def sample_floors(yard, seed=1, step=1):
+    """A FLOOR by chance for each HOLE, or for each step-th one."""
+    chance = random.Random(seed)
+    return [chance_floor(yard, hole, chance) for hole in all_places(yard)[::step]]
+
+
+def every_floor(yard):
+    """All FLOORS of a small YARD."""
+    return [floor for hole in all_places(yard) for floor in floors_by_trying(yard, hole)]
+
+
 def as_lists(value):
     """The value with lists in the place of all tuples."""
     if isinstance(value, (list, tuple)):
@@ -201,7 +374,8 @@ def check_calls(test, function, names, args):
     """The same call by position, by names and with lists: equal results, nothing changed, lists new."""
     expected = outcome(function, args)
     for form in (lambda x: x, as_tuples, as_lists, half_lists):
-        given = [form(arg) for arg in args]
+        # A thing is what it is: a list is no tuple there.
+        given = [arg if name == "thing" else form(arg) for name, arg in zip(names, args)]
         before = repr(given)
         test.assertEqual(outcome(function, given), expected, (function, given))
         test.assertEqual(outcome(function, (), dict(zip(names, given))), expected, (function, given))

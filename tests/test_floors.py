@@ -9,8 +9,8 @@ from holefloors.floors import all_floors, couple_at, couples_of, first_gap, firs
 from holefloors.floors import some_floor
 from holefloors.yards import boxed, rails
 from tests.support import ARCH, BAD_YARDS, BEND, BLOCK40, BOX, FAR, NEVER, ONE, SMALL, TWO, YARDS, all_places
-from tests.support import as_lists, cells_by_squares, check_calls, check_never, floors_by_trying, grown, outcome
-from tests.support import run_examples, small_yards
+from tests.support import as_lists, bent_floors, cells_by_squares, check_calls, check_never, floors_by_trying, grown
+from tests.support import is_floor_by_words, outcome, run_examples, small_yards
 
 EXAMPLES = '''
     >>> one, long = ((0, 0),), ((0, 0), (1, 0))
@@ -40,30 +40,6 @@ EXAMPLES = '''
 '''
 RING = (((0, 0), (1, 0)), ((0, 2), (0, 1)), ((2, 0), (2, 1)), ((2, 2), (1, 2)))
 OUTSIDE = ((3, 3), (3, 1), (-1, 0), (2, 3), (10 ** 6, 0))
-
-
-def bent_floors(yard, floor):
-    """What is nearly a FLOOR: a COUPLE lacking, twice, one too many, not ascending, of another yard."""
-    bent = [floor[1:], floor[:-1], floor + floor[-1:], floor[:1] + floor, floor[1:] + floor[:1], floor + (None,)]
-    if len(floor) > 1:
-        bent += [floor[::-1], (floor[1], floor[0]) + floor[2:]]
-    bent += [tuple((rail, place) for place, rail in floor)]
-    bent += [tuple(((x + 2, y), (a + 2, b)) for (x, y), (a, b) in floor[:-1]) + (((1, 1), (1, 1)),)]
-    bent += [tuple(((x, y - 20), (a, b - 20)) for (x, y), (a, b) in floor)]
-    for couple in couples(yard):
-        if couple not in floor:
-            bent.append(tuple(sorted(floor + (couple,))))
-            bent.append(tuple(sorted(floor[1:] + (couple,))))
-    return bent
-
-
-def is_floor_by_words(yard, told):
-    every = [cell for couple in told for cell in couple]
-    all_cells = set().union(*cells_by_squares(yard))
-    return (
-        len(every) == len(set(every)) and len(all_cells - set(every)) == 1 and set(every) <= all_cells
-        and list(told) == sorted(set(told)) and all(couple in couples(yard) for couple in told)
-    )
 
 
 class FloorsTest(unittest.TestCase):

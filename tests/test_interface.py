@@ -25,6 +25,33 @@ INTERFACE = {
         "moves_put(number,many) moves_of(yard) seen_alike(yard,other) least_seen(yard) "
         "floors_alike(yard,floor,other)"
     ),
+    "arrows": (
+        "arrows(yard,floor) arrow_of(yard,floor,place) ends_in(yard,floor,place) tree(yard,floor) "
+        "way_home(yard,floor,place) tree_rails(yard,floor) never_moved(yard,floor)"
+    ),
+    "slides": (
+        "slides(yard,floor) slid(yard,floor,place) behind(yard,floor,plan) holes_along(yard,floor,plan) "
+        "is_plan(yard,floor,thing) contrary(yard,floor,plan) moved_by(yard,floor,plan) shortened(yard,floor,plan)"
+    ),
+    "fewest": (
+        "fewest(yard,floor,place) plan_to(yard,floor,place) is_plan_to(yard,floor,place,thing) ways(yard,floor) "
+        "farthest(yard,floor) between(yard,floor,place,other) widest(yard,floor)"
+    ),
+    "lots": (
+        "standings(yard,floor) standing_at(yard,floor,place) is_standing(yard,floor,thing) "
+        "how_many_standings(yard,floor) least_standing(yard,floor) are_of_one(yard,floor,other) families(yard,kind) "
+        "free_families(yard)"
+    ),
+    "rings": (
+        "rings(yard,floor,kind) is_ring(yard,floor,thing) rings_outward(yard,floor) innermost(yard,floor) "
+        "outermost(yard,floor) lies_within(yard,floor,ring,place) places_within(yard,floor,ring) "
+        "ring_about(yard,floor,place) turned_ring(yard,floor,ring) all_turned(yard,floor)"
+    ),
+    "shut": (
+        "is_free(yard,floor) is_shut(yard,floor) depth(yard,floor) rim_posts(yard) ring_round(yard,floor) "
+        "is_ring_round(yard,floor,thing) why_free(yard,floor) is_why_free(yard,floor,thing) "
+        "never_reached(yard,floor) nearest_rim(yard,floor) opened(yard,floor)"
+    ),
     "tables": (
         "line_of(yard,hole,kind) table_of(yard,hole,kind) plain_table(yard,hole,kind) "
         "table_by(yard,hole,kind,rails) switched(yard,place,rails) determinant(table)"
@@ -32,6 +59,16 @@ INTERFACE = {
     "counts": (
         "how_many(yard,hole) by_posts(yard,hole) by_plots(yard,hole) free_many(yard) shut_many(yard,hole) "
         "many_each(yard) many_in_all(yard) fullest(yard)"
+    ),
+    "alike": (
+        "can_lead(yard,floor,other) lead_to(yard,floor,other) slides_apart(yard,floor,other) "
+        "is_lead(yard,floor,other,thing) why_apart(yard,floor,other) is_why_apart(yard,floor,other,thing) "
+        "led_by_all(yard,floor,others)"
+    ),
+    "held": (
+        "is_still(yard,thing) left(yard,still) rails_left(yard,still) kind_left(yard,still) "
+        "floor_by(yard,still,place) floors_by(yard,still) all_stills(yard,kind) lots_of_size(yard,kind,number) "
+        "free_lots(yard) why_no_still(yard,couples) is_why_no_still(yard,couples,thing)"
     ),
 }
 
