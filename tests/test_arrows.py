@@ -70,6 +70,7 @@ class ArrowsTest(unittest.TestCase):
             self.assertRaises(CanNot, arrow_of, yard, floor, hole)
 
     def test_where_arrows_end(self):
+        met = set()
         for yard, floor in samples():
             to = {own[0]: pointed(own) for own in floor}
             inside = set(all_places(yard))
@@ -79,6 +80,7 @@ class ArrowsTest(unittest.TestCase):
                 while here in to and to[here] in inside and len(way) <= len(inside):
                     here = to[here]
                     way.append(here)
+                met.add(ends_in(yard, floor, start))
                 if here == hole:
                     self.assertEqual(ends_in(yard, floor, start), "home")
                     self.assertEqual(way_home(yard, floor, start), tuple(way))
@@ -88,6 +90,7 @@ class ArrowsTest(unittest.TestCase):
                     self.assertRaises(CanNot, way_home, yard, floor, start)
                     self.assertTrue(word == "ring" or kind_by_words(start) == "plot")
             self.assertEqual(way_home(yard, floor, hole), (hole,))
+        self.assertEqual(met, {"home", "out", "ring"})
 
     def test_tree_beside_a_plain_search(self):
         for yard, floor in samples():

@@ -129,9 +129,10 @@ class ShutTest(unittest.TestCase):
             self.check_free(yard, floor, at_rim)
         else:
             self.check_shut(yard, floor, about)
-        for place in slides(yard, floor)[:1]:
+        for place in slides(yard, floor):
             after = slid(yard, floor, place)
             self.assertIs(is_free(yard, after), free)
+            self.assertIs(is_shut(yard, after), not free)
             self.assertEqual(rings_by_walk(after), rings_by_walk(floor))
 
     def check_free(self, yard, floor, at_rim):
