@@ -1,25 +1,19 @@
 """How many FLOORS have a told HOLE, by determinants."""
 
 from holefloors.cells import cells, kind_of
+from holefloors.lines import many_by_number
 from holefloors.tables import determinant, plain_table, table_of
 from holefloors.yards import posts
 
 
-def _at_plot(yard, hole):
-    """Whether the HOLE, a PLACE, is at a PLOT."""
-    return kind_of(yard, hole) == "plot"
-
-
 def by_posts(yard, hole):
     """How many FLOORS have this HOLE, by the TABLE for "post"."""
-    number = determinant(table_of(yard, hole, "post"))
-    return number // 2 if _at_plot(yard, hole) else number
+    return many_by_number(hole, "post", determinant(table_of(yard, hole, "post")))
 
 
 def by_plots(yard, hole):
     """How many FLOORS have this HOLE, by the TABLE for "plot"."""
-    number = determinant(table_of(yard, hole, "plot"))
-    return 2 * number if _at_plot(yard, hole) else number
+    return many_by_number(hole, "plot", determinant(table_of(yard, hole, "plot")))
 
 
 def how_many(yard, hole):
@@ -36,7 +30,7 @@ def free_many(yard):
 def shut_many(yard, hole):
     """How many SHUT FLOORS have this HOLE."""
     number = how_many(yard, hole)
-    return number if _at_plot(yard, hole) else number - free_many(yard)
+    return number if kind_of(yard, hole) == "plot" else number - free_many(yard)
 
 
 def many_each(yard):

@@ -99,6 +99,13 @@ def fit_number(value):
     return value
 
 
+def fit_number_from_0(value):
+    """The number from 0 that value is."""
+    if fit_number(value) < 0:
+        raise Unfit()
+    return value
+
+
 def fit_pair(value):
     """The pair of numbers that value is."""
     pair = as_pair(value)
@@ -138,6 +145,12 @@ def fit_couple_set(near, value):
     return couples
 
 
+def place_or_none(near, value):
+    """The PLACE that value is, if need be a list for the tuple; None if it is none."""
+    place = as_pair(value)
+    return place if place is not None and is_place_in(near, place) else None
+
+
 def plan_or_none(near, value):
     """The tuple of PLACES that value is, if need be with lists for tuples; None if it is none."""
     plan = as_pairs(value)
@@ -154,12 +167,18 @@ def fit_plan(near, value):
     return plan
 
 
+def fit_rail_row(near, value):
+    """The tuple of RAILS that value is, in any order, maybe one twice."""
+    rails = as_pairs(value)
+    if rails is None or not all([rail in near and kind_by_numbers(rail) == "rail" for rail in rails]):
+        raise Unfit()
+    return rails
+
+
 def fit_rails(near, value):
     """The set of RAILS that value is."""
-    rails = as_pairs(value)
-    if rails is None or not is_ascending(rails):
-        raise Unfit()
-    if not all([rail in near and kind_by_numbers(rail) == "rail" for rail in rails]):
+    rails = fit_rail_row(near, value)
+    if not is_ascending(rails):
         raise Unfit()
     return rails
 

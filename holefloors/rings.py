@@ -8,7 +8,7 @@ from holefloors.shapes import as_pairs
 from holefloors.trails import floor_of, goal_of, trail
 
 
-def _rings_in(near, laid, kind):
+def rings_in(near, laid, kind):
     """The list, ascending, of the RINGS of a kind."""
     found = []
     for place in places_in(near, kind):
@@ -23,7 +23,7 @@ def _rings_in(near, laid, kind):
 def _outward_in(near, laid):
     """The list of all RINGS, each within the next one."""
     # A RING begins with a westmost PLACE: of one within another one that is farther east.
-    return sorted(_rings_in(near, laid, "post") + _rings_in(near, laid, "plot"), reverse=True)
+    return sorted(rings_in(near, laid, "post") + rings_in(near, laid, "plot"), reverse=True)
 
 
 def _fit_ring(near, laid, value):
@@ -49,7 +49,7 @@ def _is_within(ring, place):
     return place not in ring and len(crossed) % 2 == 1
 
 
-def _turned(laid, ring):
+def laid_turned(laid, ring):
     """What is laid once a RING has been turned: each PLACE of it has the RAIL of the one that points to it."""
     now = {place: laid[place] for place in laid}
     for place, after in _steps_of(ring):
@@ -60,7 +60,7 @@ def _turned(laid, ring):
 def rings(yard, floor, kind):
     """The list, ascending, of the RINGS of a kind."""
     near, laid, _ = map_laid_hole(yard, floor)
-    return _rings_in(near, laid, fit_kind(kind))
+    return rings_in(near, laid, fit_kind(kind))
 
 
 def is_ring(yard, floor, thing):
@@ -124,7 +124,7 @@ def ring_about(yard, floor, place):
 def turned_ring(yard, floor, ring):
     """The FLOOR with a RING turned, all else as before."""
     near, laid, _ = map_laid_hole(yard, floor)
-    return floor_of(_turned(laid, _fit_ring(near, laid, ring)))
+    return floor_of(laid_turned(laid, _fit_ring(near, laid, ring)))
 
 
 def all_turned(yard, floor):
@@ -136,5 +136,5 @@ def all_turned(yard, floor):
         raise TooMany()
     every = [laid]
     for ring in found:
-        every = every + [_turned(own, ring) for own in every]
+        every = every + [laid_turned(own, ring) for own in every]
     return sorted([floor_of(own) for own in every])

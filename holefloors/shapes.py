@@ -40,3 +40,12 @@ def as_couples(value):
 def is_ascending(parts):
     """Whether each of parts is below the next one."""
     return all([low < high for low, high in zip(parts, parts[1:])])
+
+
+def is_same(thing, value):
+    """Whether thing is value, made of numbers and tuples: a list is no tuple and a truth value no number."""
+    if not isinstance(value, tuple):
+        return is_number(thing) and thing == value
+    if not isinstance(thing, tuple) or len(thing) != len(value):
+        return False
+    return all([is_same(part, own) for part, own in zip(thing, value)])

@@ -2,30 +2,8 @@
 
 from holefloors.errors import Unfit
 from holefloors.fits import fit_kind, fit_map, fit_pair, fit_rails, need_place
-from holefloors.ground import beyond, kind_by_numbers, places_in
+from holefloors.lines import line_rails, rails_of_places, table_by_rails
 from holefloors.shapes import is_number
-
-
-def _line_rails(near, hole, kind):
-    """The LINE: half a CELL north of a HOLE it crosses RAILS for "post", else the RAILS between PLOTS."""
-    east, north = hole
-    level = north + 1 - north % 2 if kind == "post" else north - north % 2
-    return tuple([
-        cell for cell in near
-        if cell[0] > east and cell[1] == level and kind_by_numbers(cell) == "rail"
-    ])
-
-
-def _table(near, hole, kind, turned):
-    """The TABLE in which the RAILS that are turned count with the other sign."""
-    own = [place for place in places_in(near, kind) if place != hole]
-    turned_rails = {rail: True for rail in turned}
-    rows = []
-    for place in own:
-        entries = {beyond(place, rail): 1 if rail in turned_rails else -1 for rail in near[place]}
-        entries[place] = len(near[place])
-        rows.append(tuple([entries.get(other, 0) for other in own]))
-    return tuple(rows)
 
 
 def _fit_hole(yard, hole, kind):
@@ -40,19 +18,19 @@ def _fit_hole(yard, hole, kind):
 def line_of(yard, hole, kind):
     """The LINE of a HOLE, for a kind."""
     near, place, own_kind = _fit_hole(yard, hole, kind)
-    return _line_rails(near, place, own_kind)
+    return line_rails(near, place, own_kind)
 
 
 def table_of(yard, hole, kind):
     """The TABLE of a HOLE, for a kind."""
     near, place, own_kind = _fit_hole(yard, hole, kind)
-    return _table(near, place, own_kind, _line_rails(near, place, own_kind))
+    return table_by_rails(rails_of_places(near, place, own_kind), line_rails(near, place, own_kind))
 
 
 def plain_table(yard, hole, kind):
     """The plain TABLE of a HOLE, for a kind: no sign is turned."""
     near, place, own_kind = _fit_hole(yard, hole, kind)
-    return _table(near, place, own_kind, ())
+    return table_by_rails(rails_of_places(near, place, own_kind), ())
 
 
 def table_by(yard, hole, kind, rails):
@@ -62,7 +40,7 @@ def table_by(yard, hole, kind, rails):
     own_kind = fit_kind(kind)
     turned = fit_rails(near, rails)
     need_place(near, place)
-    return _table(near, place, own_kind, turned)
+    return table_by_rails(rails_of_places(near, place, own_kind), turned)
 
 
 def switched(yard, place, rails):

@@ -22,6 +22,10 @@ SNAKE40 = tuple(sorted(
     [(x, y) for y in (0, 2, 4, 6) for x in range(9)] + [(8, 1), (0, 3), (8, 5), (0, 7)]
 ))
 
+ROW14 = tuple((x, 0) for x in range(14))
+# All of four SQUARES or fewer, but for those that are others turned or mirrored.
+FEW = (ONE, TWO, ((0, 0), (0, 1)), BEND, ((0, 0), (1, 0), (2, 0)), BOX)
+
 SMALL = (ONE, TWO, ((0, 0), (0, 1)), BEND, FAR, BOX, STAIRS, CROSS)
 # Nearly YARDS: nothing, two parts, not ascending, twice, below 0, True for a number.
 BAD_YARDS = ((), ((0, 0), (1, 1)), ((1, 0), (0, 0)), ((0, 0), (0, 0)), ((-1, 0),), ((0, True),))
@@ -165,6 +169,11 @@ def couples_by_words(yard):
     return [
         ((x, y), (x + a, y + b)) for x, y in all_places(yard) for a, b in around if (x + a, y + b) in rails
     ]
+
+
+def free_by_trying(yard, hole):
+    """All free FLOORS with this HOLE."""
+    return [floor for floor in floors_by_trying(yard, hole) if hole[0] % 2 == 0 and not has_post_ring(floor)]
 
 
 def is_floor_by_words(yard, told):
@@ -398,6 +407,15 @@ def check_never(test, function, args, at, error, besides=()):
         given[at] = bad
         with test.assertRaises(error, msg=(function, at, bad)):
             function(*given)
+
+
+def check_no_place(test, function, args, at):
+    """NoPlace is raised for each pair of numbers at this place of the arguments that is no PLACE, told as it is."""
+    rails = sorted(cells_by_squares(as_tuples(args[0]))[1])
+    for place in rails + [(-1, -1), (-2, 0), (-1, 1), (10 ** 6, 10 ** 6), (0, 10 ** 6 + 1)]:
+        given = list(args)
+        given[at] = list(place)
+        test.assertEqual(outcome(function, given), f"raises NoPlace(place={place})", (function, given))
 
 
 def run_examples(test, text, names):

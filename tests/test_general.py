@@ -8,6 +8,7 @@ from holefloors.arrows import never_moved, tree
 from holefloors.lots import standings
 from holefloors.rings import rings_outward
 from holefloors.slides import is_plan, slides
+from holefloors.texts import picture
 from tests.support import BEND, NINE, ONE, check_calls, couples_by_words, nested, outcome, sample_floors
 from tests.test_interface import INTERFACE
 
@@ -44,10 +45,12 @@ def values(module, name, yard, floor):
         "ring": tuple(rings_outward(yard, floor)) + ((),),
         "still": (never_moved(yard, floor), ()),
         "others": ((floor, floor), (), (floor, ())),
+        "told": (floor[1:3], couples_by_words(yard)[:2], tuple(own for own in floor if own[0][0] % 2), floor[1::-1]),
+        "sheet": ((yard, None, ()), (yard, places[0], floor), (yard, (1, 0), ())),
         "table": (TABLE, (), ((1,), (2,))),
         "words": (WORDS, [], [("a", 1), ("b", 0)]),
         "word": ("12", "-0"),
-        "text": ("yard -1 0 # a remark\n2", "A"),
+        "text": ("yard -1 0 # a remark\n2", "A", "square 0 0\nhole 1 1\n", "><v\nvo^\n^><\n", picture(yard, floor)),
         "thing": THINGS + (floor, list(floor), yard, never_moved(yard, floor)) + tuple(rings_outward(yard, floor)),
     }[name]
 

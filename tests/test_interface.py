@@ -70,6 +70,23 @@ INTERFACE = {
         "floor_by(yard,still,place) floors_by(yard,still) all_stills(yard,kind) lots_of_size(yard,kind,number) "
         "free_lots(yard) why_no_still(yard,couples) is_why_no_still(yard,couples,thing)"
     ),
+    "rounds": (
+        "ring_counts(yard,hole) ring_ways(yard,hole) most_rings(yard,hole) many_with_rings(yard,hole,number) "
+        "mean_rings(yard,hole)"
+    ),
+    "shares": (
+        "free_share(yard,hole) rail_many(yard,rail) rail_share(yard,rail) couple_many(yard,hole,couple) "
+        "couple_share(yard,hole,couple) round_share(yard,place)"
+    ),
+    "told": (
+        "clash(yard,hole,told) many_with(yard,hole,told) share_with(yard,hole,told,couple) can_finish(yard,hole,told) "
+        "finished(yard,hole,told) is_finished(yard,hole,told,thing) why_not(yard,hole,told) "
+        "is_why_not(yard,hole,told,thing) couples_in_all(yard,hole,told) couples_in_some(yard,hole,told)"
+    ),
+    "texts": (
+        "is_sheet(thing) sheet_text(sheet) read_sheet(text) yard_text(yard) read_yard(text) picture(yard,floor) "
+        "read_picture(text)"
+    ),
 }
 
 

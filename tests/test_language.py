@@ -79,7 +79,7 @@ class LanguageTest(unittest.TestCase):
                 elif isinstance(node, ast.ImportFrom):
                     bound += [alias.name for alias in node.names]
                 elif isinstance(node, ast.Assign):
-                    self.assertIsInstance(node.value, (ast.Constant, ast.Tuple), name)
+                    self.assertIsInstance(node.value, (ast.Constant, ast.Tuple, ast.Dict), name)
                     bound += [target.id for target in node.targets]
             self.assertEqual(len(bound), len(set(bound)), name)
 
@@ -111,9 +111,12 @@ class LanguageTest(unittest.TestCase):
             self.assertNotIn(name, reached[name])
 
     def test_names_and_nodes(self):
-        own = set()
+        own, methods = set(), set(METHODS)
         for _, text in sources():
             own |= defined(ast.parse(text))
+            for node in ast.walk(ast.parse(text)):
+                if isinstance(node, ast.ClassDef):
+                    methods |= {part.name for part in node.body if isinstance(part, ast.FunctionDef)}
         for name, text in sources():
             tree = ast.parse(text)
             known = names_bound(tree) | own | BUILTINS
@@ -128,7 +131,11 @@ class LanguageTest(unittest.TestCase):
                     self.assertNotIsInstance(node.value, (float, complex), name)
                 if isinstance(node, ast.Call) and isinstance(node.func, ast.Attribute):
                     inits = node.func.attr == "__init__"
-                    self.assertTrue(inits or node.func.attr in METHODS, (name, node.func.attr))
+                    self.assertTrue(inits or node.func.attr in methods, (name, node.func.attr))
+                if isinstance(node, ast.Starred):
+                    self.assertIsInstance(node.value, ast.Name, (name, node.lineno))
+                if isinstance(node, ast.Name) and node.id == "_":
+                    self.assertIsInstance(node.ctx, ast.Store, (name, node.lineno))
                 if isinstance(node, ast.Compare):
                     for sign, side in zip(node.ops, node.comparators):
                         if isinstance(sign, (ast.Is, ast.IsNot)):
