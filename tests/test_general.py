@@ -5,11 +5,13 @@ import unittest
 from itertools import product
 
 from holefloors.arrows import never_moved, tree
+from holefloors.joined import halves
 from holefloors.lots import standings
+from holefloors.numbered import first_floor
 from holefloors.rings import rings_outward
 from holefloors.slides import is_plan, slides
 from holefloors.texts import picture
-from tests.support import BEND, NINE, ONE, check_calls, couples_by_words, nested, outcome, sample_floors
+from tests.support import BEND, NINE, ONE, all_places, check_calls, couples_by_words, nested, outcome, sample_floors
 from tests.test_interface import INTERFACE
 
 TABLE = ((2, -1), (-1, 2))
@@ -20,6 +22,20 @@ THINGS = (
 )
 
 
+def demands(yard, floor, place):
+    """DEMANDS about a FLOOR, and what is none."""
+    return (
+        ("free", yard, floor), ("come", yard, floor, place), ("come", yard, floor, (1, 1)), ("apart", yard, floor, floor),
+        ("fewest", yard, floor, tree(yard, floor)[-1], 1), ("many", yard, place, 0), ("many", yard, (1, 1), 10 ** 9), ("free",),
+    )
+
+
+def beside(yard):
+    """A YARD of one SQUARE, side by side with another one."""
+    east = max(x for x, _ in yard)
+    return ((east + 1, min(y for x, y in yard if x == east)),)
+
+
 def values(module, name, yard, floor):
     """What to pass as the argument of this name, for a YARD and a FLOOR of it: fit, nearly fit, unfit."""
     places = slides(yard, floor)[:1] + (tree(yard, floor)[-1], (1, 1), (1, 0), (0, True))
@@ -28,12 +44,18 @@ def values(module, name, yard, floor):
             return places
         if module == "mirrored":
             return (BEND, yard, floor)
+        if module == "joined":
+            return (beside(yard), yard)
         return (standings(yard, floor)[0][1], floor, sample_floors(yard, 9)[1], floor[1:])
+    if module == "joined" and name in ("floor", "other_floor"):
+        whole = tuple(sorted(yard + beside(yard)))
+        part, rest = halves(yard, beside(yard), first_floor(whole, all_places(yard)[-1]))
+        return (part, floor, first_floor(whole, (1, 1))) if name == "floor" else (rest, floor)
     return {
         "yard": (yard,),
         "floor": (floor,),
         "place": places, "hole": places, "cell": places,
-        "rail": ((1, 0), (0, 1), (1, 1)),
+        "rail": ((1, 0), (0, 1), (1, 1), (2, 1)),
         "square": (yard[0], (yard[0][0] + 1, yard[0][1]), (-1, 0)),
         "squares": (yard, yard[::-1], ()),
         "couple": (floor[0], couples_by_words(yard)[-1], floor[0][::-1]),
@@ -46,6 +68,7 @@ def values(module, name, yard, floor):
         "still": (never_moved(yard, floor), ()),
         "others": ((floor, floor), (), (floor, ())),
         "told": (floor[1:3], couples_by_words(yard)[:2], tuple(own for own in floor if own[0][0] % 2), floor[1::-1]),
+        "demand": demands(yard, floor, places[0]), "demands": (demands(yard, floor, places[1])[:-1], (), ((),)),
         "sheet": ((yard, None, ()), (yard, places[0], floor), (yard, (1, 0), ())),
         "table": (TABLE, (), ((1,), (2,))),
         "words": (WORDS, [], [("a", 1), ("b", 0)]),

@@ -87,6 +87,24 @@ INTERFACE = {
         "is_sheet(thing) sheet_text(sheet) read_sheet(text) yard_text(yard) read_yard(text) picture(yard,floor) "
         "read_picture(text)"
     ),
+    "numbered": (
+        "row_of_rails(yard,floor) many_begin(yard,hole,rails) floor_at(yard,hole,number) floor_number(yard,floor) "
+        "first_floor(yard,hole) last_floor(yard,hole) next_floor(yard,floor) floor_ahead(yard,floor) "
+        "floors_from(yard,floor,many)"
+    ),
+    "joined": (
+        "common_rail(yard,other) joined(yard,other) parted(yard,rail) bare(yard,rail) end_shares(yard,hole,rail) "
+        "many_joined(yard,other,hole) free_joined(yard,other) halves(yard,other,floor) "
+        "put_halves(yard,other,floor,other_floor)"
+    ),
+    "judge": (
+        "is_demand(thing) is_so(demand) paper_against(demand) is_paper_against(demand,thing) reason_for(demand) "
+        "is_reason_for(demand,thing) first_fallen(demands)"
+    ),
+}
+DESK = {
+    "__init__": "yard,floor", "say": "text", "yard": "", "floor": "", "first": "", "slides_done": "", "undo": "", "redo": "",
+    "twin": "", "__eq__": None,
 }
 
 
@@ -104,6 +122,29 @@ class InterfaceTest(unittest.TestCase):
                 for own in parameters:
                     self.assertEqual(own.kind, own.POSITIONAL_OR_KEYWORD, part)
                     self.assertIs(own.default, own.empty, part)
+
+    def test_desk(self):
+        module = importlib.import_module("holefloors.desk")
+        self.assertTrue(inspect.isclass(module.Desk))
+        self.assertEqual((module.Desk.__module__, module.Desk.__bases__), ("holefloors.desk", (object,)))
+        for name, arguments in DESK.items():
+            # Each method stands in the body of the class itself.
+            method = vars(module.Desk)[name]
+            self.assertTrue(inspect.isfunction(method), name)
+            if arguments is not None:
+                parameters = list(inspect.signature(method).parameters)[1:]
+                self.assertEqual(parameters, arguments.split(",") if arguments else [], name)
+
+    def test_errors(self):
+        module = importlib.import_module("holefloors.errors")
+        for told in "NoCell(cell) NoPlace(place) NothingDone() BadText(line) Broken(number) CanNot() TooMany() Unfit()".split():
+            name, arguments = told[:-1].split("(")
+            error = getattr(module, name)
+            self.assertTrue(inspect.isclass(error) and error.__module__ == "holefloors.errors", told)
+            if arguments:
+                self.assertEqual(list(inspect.signature(error).parameters), [arguments], told)
+            else:
+                self.assertEqual(vars(error()), {}, told)
 
 
 if __name__ == "__main__":
