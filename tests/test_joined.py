@@ -143,9 +143,13 @@ class JoinedTest(unittest.TestCase):
             (ONE, ((1, 1),)), (ONE, ONE), (ONE, ((5, 5),)), (TWO, ((1, 0), (2, 0))), (TWO, ((0, 1), (1, 1))), (ONE, TWO),
             (BEND, ((1, 1),)), (ARCH, ((2, 1),)), (BEND, ((1, 1), (2, 1))), (((0, 0), (1, 0), (2, 0)), ((0, 1), (1, 1))),
             (ONE, ((0, 2),)), (ONE, FAR), (((0, 0), (1, 0), (1, 1)), ((0, 1), (0, 2), (1, 2))), (ONE, ((2, 0),)),
+            # A RAIL and one more POST; three POSTS without a RAIL.
+            (((0, 0), (0, 1), (0, 2), (1, 2)), ((1, 0), (2, 0), (2, 1))),
+            (COMB, ((1, 2), (1, 3), (2, 3), (3, 3), (4, 3), (5, 2), (5, 3))),
             (boxed(3, 1), ((1, 1), (1, 2), (2, 1))), (ARCH, ((2, 1), (3, 1))), (TWO, ((2, 1), (3, 1))),
         ):
             floor, its = first_floor(yard, (yard[0][0] * 2, yard[0][1] * 2)), last_floor(other, all_places(other)[0])
+            self.assertTrue(is_yard(yard) and is_yard(other))
             for one, two, first, second in ((yard, other, floor, its), (other, yard, its, floor)):
                 self.assertIsNone(rail_by_words(one, two))
                 for function in (common_rail, joined, free_joined):

@@ -213,6 +213,16 @@ class JudgeTest(unittest.TestCase):
                 ) + ((("fewest", yard, floor, place, len(plan) - 1),) if plan else ()):
                     self.check(demand)
 
+    def test_each_ring_is_a_paper(self):
+        for floor in (nested(3), nested(3, (1, 3)), nested(3, (2,))):
+            demand = ("free", NINE, floor)
+            every = rings_by_walk(floor)
+            self.assertEqual(len(every), 3)
+            for ring in every:
+                self.assertIs(is_paper_against(demand, ring), kind_by_words(ring[0]) == "post")
+                for bad in (ring[::-1], ring[1:] + ring[:1], ring[:-1], list(ring)):
+                    self.assertIs(is_paper_against(demand, bad), False)
+
     def test_long_plans(self):
         floor = ((0, 2), (0, 1)), ((1, 1), (1, 0)), ((2, 0), (2, 1)), ((2, 2), (1, 2))
         plan = ((0, 2), (0, 0)) * 40000

@@ -11,7 +11,7 @@ from holefloors.yards import boxed
 from tests.support import ARCH, BAD_YARDS, BEND, BLOCK40, BOX, COMB, CROSS, FAR, FEW, NEVER, NINE, OBLONG, ONE, ROW14
 from tests.support import ROW40, SNAKE40, STAIRS, TWO, all_places, cells_by_squares, check_calls, check_never
 from tests.support import check_no_place, floors_by_trying, grown, hole_by_words, is_beside, kind_by_words, nested
-from tests.support import no_floors, run_examples, sample_floors
+from tests.support import no_floors, rings_by_walk, run_examples, sample_floors
 
 EXAMPLES = '''
     >>> one, two = ((0, 0),), ((0, 0), (1, 0))
@@ -135,6 +135,7 @@ class NumberedTest(unittest.TestCase):
                 self.assertEqual(many_begin(yard, hole, row[:posts]), 2 ** (many // 2))
                 self.assertEqual(many_begin(yard, hole, row[:-1]), 1)
                 self.assertEqual(many_begin(yard, hole, row), 1)
+                self.check_rings_told(yard, hole, floor, row, posts)
                 number = floor_number(yard, floor)
                 self.assertEqual(floor_at(yard, hole, number), floor)
                 before = [rail for rail in range(2 ** (many // 2))]
@@ -142,6 +143,26 @@ class NumberedTest(unittest.TestCase):
                 told = [row_of_rails(yard, floor_at(yard, hole, start + own)) for own in before]
                 self.assertEqual(told, sorted(told))
                 self.assertEqual({own[:posts] for own in told}, {row[:posts]})
+
+    def check_rings_told(self, yard, hole, floor, row, posts):
+        """PLOTS told one by one: each RING of PLOTS none of which is told lies two ways."""
+        order = order_by_words(yard, hole)
+        rings = [ring for ring in rings_by_walk(floor) if kind_by_words(ring[0]) == "plot"]
+        for at in range(posts, len(row) + 1, 1 if len(row) < 60 else 5):
+            free = [ring for ring in rings if not set(ring) & set(order[:at])]
+            self.assertEqual(many_begin(yard, hole, row[:at]), 2 ** len(free))
+
+    def test_rings_told_in_part(self):
+        # A RING of four PLOTS round (4, 2); the PLOTS (1, 1), (1, 3) stand ahead of it.
+        floors = [floor for floor in floors_by_trying(OBLONG, (4, 2)) if rings_by_walk(floor)]
+        rows = [row_by_words(OBLONG, floor) for floor in floors_by_trying(OBLONG, (4, 2))]
+        posts = len(cells_by_squares(OBLONG)[0]) - 1
+        for floor in floors[::5]:
+            row = row_by_words(OBLONG, floor)
+            for at in range(posts - 1, len(row) + 1):
+                many = len([own for own in rows if own[:at] == row[:at]])
+                self.assertEqual(many_begin(OBLONG, (4, 2), row[:at]), many)
+            self.assertEqual([many_begin(OBLONG, (4, 2), row[:at]) for at in (posts + 1, posts + 2, posts + 3)], [2, 2, 1])
 
     def test_great_yards(self):
         chance = random.Random(102)

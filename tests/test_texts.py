@@ -159,7 +159,10 @@ class TextsTest(unittest.TestCase):
             ("square 0 0\nhole 1 1\nhole 1 1", 2), ("square 0 0\nhole 1 1\nhole 0 0", 2),
             ("square 0 0\ncouple 0 0 1 0\nhole 0 2", 2), ("square 0 0\nhole 1 1\ncouple 0 0 1 0\nhole 1 1", 3),
             ("square 0 0\ncouple 0 0 1 0\ncouple 0 0 1 0", 2), ("square 0 0\ncouple 0 0 1 0\ncouple 0 0 0 1", 2),
-            ("square 0 0\ncouple 2 2 2 1\ncouple 0 2 1 2\nfoo", 2), ("square 0 0\ncouple 0 0 0 1\n\nsquare 0 0", 3),
+            ("square 0 0\ncouple 2 2 2 1\ncouple 0 2 1 2\nfoo", 2),
+            ("square 0 0\nsquare 0 0\nhole 1 1", 1), ("square 0 0\nsquare 1 0\nsquare 0 1\nhole 1 1", 2),
+            ("square 0 0\nsquare 0 1\nsquare 0 0\nsquare 1 0\nhole 1 1", 2),
+            ("square 0 0\ncouple 0 0 0 1\ncouple 2 0 1 0\ncouple 0 2 0 1\ncouple 2 2 2 1", 3), ("square 0 0\ncouple 0 0 0 1\n\nsquare 0 0", 3),
         ):
             self.bad_sheet(text, line)
         # A COUPLE of another YARD, a HOLE of another one.
